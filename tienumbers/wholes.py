@@ -1,0 +1,10 @@
+"""Whole numbers told from whatever else may be handed in."""
+
+
+def is_whole(thing):
+    # Python counts truths among the ints; here they are no numbers.
+    return isinstance(thing, int) and not isinstance(thing, bool)
+
+
+def whole_within(thing, least, most):
+    return is_whole(thing) and least <= thing <= most
