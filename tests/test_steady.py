@@ -14,7 +14,7 @@ KINDS = [("spine", (1, 0, 2)), ("ring", 5), ("sides", 2, 3), ("full", 4), ("whee
 
 
 def questions():
-    """Each question as a text and a call without arguments, refusals among them."""
+    """Each question as a function and what it is handed, refusals among them."""
     found = []
     for web in WEBS:
         for asked in (is_web, tie_counts, pieces_of, tree_like, hubs_of, sides_of):
