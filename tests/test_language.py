@@ -60,7 +60,62 @@ def drawn_from(tree):
     return [node.module for node in tree.body if isinstance(node, ast.ImportFrom)]
 
 
+def parents(tree):
+    return {child: node for node in ast.walk(tree) for child in ast.iter_child_nodes(node)}
+
+
+def called(node, names):
+    return isinstance(node, ast.Call) and isinstance(node.func, ast.Name) and node.func.id in names
+
+
+def walker(node):
+    """Whether it is a thing that is walked at once (L23)."""
+    if called(node, ("zip", "enumerate", "reversed", "range")):
+        return True
+    own = isinstance(node, ast.Call) and isinstance(node.func, ast.Attribute)
+    return own and node.func.attr in ("items", "keys", "values")
+
+
+def walked_by(node, parent):
+    if isinstance(parent, (ast.For, ast.comprehension)):
+        return parent.iter is node
+    takers = ("list", "tuple", "dict", "sorted", "sum", "any", "all", "enumerate", "zip")
+    if called(parent, takers):
+        return parent.args[0] is node
+    return called(parent, ("min", "max")) and parent.args == [node]
+
+
 class LanguageTest(unittest.TestCase):
+    def test_walked_at_once_L23(self):
+        for name, tree in trees():
+            above = parents(tree)
+            for node in ast.walk(tree):
+                if walker(node):
+                    self.assertTrue(walked_by(node, above[node]), (name, node.lineno))
+
+    def test_sets_are_not_kept_L24(self):
+        for name, tree in trees():
+            above = parents(tree)
+            for node in ast.walk(tree):
+                self.assertNotIsInstance(node, ast.Set, name)
+                if called(node, ("set", "frozenset")):
+                    parent = above[node]
+                    self.assertTrue(isinstance(parent, ast.Compare) or called(parent, ("sorted", "len")), node.lineno)
+
+    def test_powers_and_signs_L27(self):
+        for name, node in nodes():
+            if isinstance(node, ast.BinOp) and isinstance(node.op, ast.Pow):
+                self.assertIsInstance(node.right, ast.Constant, name)
+            if isinstance(node, ast.Constant) and isinstance(node.value, str):
+                self.assertNotIn("%", node.value, name)
+
+    def test_keywords_L22(self):
+        allowed = {"sorted": ("key", "reverse"), "min": ("key", "default"), "max": ("key", "default")}
+        for name, node in nodes():
+            if isinstance(node, ast.Call) and node.keywords:
+                told = allowed.get(node.func.id if isinstance(node.func, ast.Name) else "", ())
+                self.assertTrue(all(keyword.arg in told for keyword in node.keywords), (name, node.lineno))
+
     def test_files_alone_L1_L14(self):
         for path in PACKAGE.iterdir():
             if path.name != "__pycache__":

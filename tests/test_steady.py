@@ -3,18 +3,76 @@
 import copy
 import unittest
 
-from tests.things import greatest_web, odd_things, row_web
-from tienumbers.errors import NoKind, NoPlace, NoWeb, TieError
+from tests.things import greatest_web, odd_things, ring_web, row_web, sides_numbers, sides_web, star_web, zigzag
+from tienumbers.counting import goes_on, next_numbers, next_steps, nth_steps, rank_of, steps_count, tally_at
+from tienumbers.errors import NoKind, NoNumber, NoPlace, NoWeb, TieError, TooGreat
 from tienumbers.kinds import kind_good, web_for
+from tienumbers.making import grown_above, grown_steps, parted_for, steps_for
+from tienumbers.searches import paper_for, paper_holds
+from tienumbers.steps import (
+    half_turned, joined_webs, mirrored_steps, parted_at, step_bar, step_bar_holds, steps_good, steps_of,
+)
 from tienumbers.webs import hubs_of, is_web, pieces_of, sides_of, ties_at, tie_counts, tree_like, web_of
 from tienumbers.wholes import is_whole, whole_within
 
 WEBS = [(1, ()), (4, ((0, 1), (0, 2), (1, 2))), (6, ((0, 3), (0, 4), (1, 5))), row_web(40), greatest_web()]
 KINDS = [("spine", (1, 0, 2)), ("ring", 5), ("sides", 2, 3), ("full", 4), ("wheel", 4), ("fan", 3)]
+# Webs with a steps numbering of each; the last two have too many ties to be counted.
+NUMBERED = [
+    ((1, ()), (0,)), (row_web(5), zigzag(5)), (ring_web(3), (0, 1, 3)), (star_web(6), (0, 5, 4, 3, 2, 1)),
+    (row_web(40), zigzag(40)), (sides_web(6, 10), sides_numbers(6, 10)),
+]
+PAPERS = [("bar", ("even",)), ("bar", ("places",)), ("clash", 0, 1), ("cases", (None,) * 6), ("cases", (None,))]
+
+DUE = {
+    web_of: (NoWeb,), ties_at: (NoPlace,), web_for: (NoKind,), steps_of: (NoNumber,), mirrored_steps: (NoNumber,),
+    parted_at: (NoNumber,), half_turned: (NoNumber,), joined_webs: (NoNumber, TooGreat), steps_for: (NoKind,),
+    parted_for: (NoKind,), grown_steps: (NoWeb,), grown_above: (NoWeb,), steps_count: (TooGreat,),
+    nth_steps: (TooGreat, NoNumber), rank_of: (TooGreat, NoNumber), next_steps: (TooGreat, NoNumber),
+    goes_on: (TooGreat, NoNumber), next_numbers: (TooGreat, NoNumber), tally_at: (TooGreat, NoPlace),
+    paper_holds: (NoNumber,), paper_for: (TooGreat, NoNumber),
+}
 
 
 def questions():
     """Each question as a function and what it is handed, refusals among them."""
+    return web_questions() + steps_questions() + counting_questions()
+
+
+def steps_questions():
+    found = []
+    for web, numbers in NUMBERED:
+        found.append((step_bar, (web,)))
+        for thing in [numbers, numbers[::-1], list(numbers), ("even",)] + odd_things():
+            for asked in (steps_of, steps_good, mirrored_steps, parted_at, half_turned, step_bar_holds):
+                found.append((asked, (web, thing)))
+            found.append((joined_webs, (web, numbers, web, thing)))
+            found.append((joined_webs, (web, thing, web, numbers)))
+        for other, others in NUMBERED:
+            found.append((joined_webs, (web, numbers, other, others)))
+        for count in (1, 3, 39, 60):
+            found.append((grown_steps, (web, numbers, count)))
+            found.append((grown_above, (web, numbers, count)))
+    for thing in KINDS + [("ring", 8), ("ring", 2)] + odd_things():
+        found.append((steps_for, (thing,)))
+        found.append((parted_for, (thing,)))
+    return found
+
+
+def counting_questions():
+    found = []
+    for web in [web for web, numbers in NUMBERED] + [ring_web(5), (40, ())]:
+        found.append((steps_count, (web,)))
+        for thing in [0, 1, (0, 1), (1, 0), zigzag(web[0])] + odd_things():
+            for asked in (nth_steps, rank_of, next_steps, goes_on, next_numbers, tally_at, paper_for):
+                found.append((asked, (web, thing)))
+            found.append((paper_holds, (web, thing, ("bar", ("even",)))))
+            found.append((paper_holds, (web, (), thing)))
+        found.extend((paper_holds, (web, (), paper)) for paper in PAPERS)
+    return found
+
+
+def web_questions():
     found = []
     for web in WEBS:
         for asked in (is_web, tie_counts, pieces_of, tree_like, hubs_of, sides_of):
@@ -64,11 +122,14 @@ class SteadyTest(unittest.TestCase):
             self.assertEqual(repr(given), kept)
 
     def test_each_refusal_is_of_the_class_that_is_told(self):
-        due = {web_of: NoWeb, ties_at: NoPlace, web_for: NoKind}
-        refused = [(asked, answer(asked, given)) for asked, given in questions()]
-        for asked, told in refused:
+        seen = {}
+        for asked, given in questions():
+            told = answer(asked, given)
             if told[0] == "refused":
-                self.assertIs(told[1], due[asked])
+                self.assertIn(told[1], DUE[asked])
+                seen[(asked, told[1])] = True
+        for asked, classes in DUE.items():
+            self.assertTrue(all((asked, due) in seen for due in classes), asked)
 
     def test_what_was_told_may_be_handed_in_again(self):
         for kind in KINDS:
@@ -76,6 +137,17 @@ class SteadyTest(unittest.TestCase):
             self.assertIs(is_web(web), True)
             self.assertEqual(web_of(web[0], list(web[1])), web)
             self.assertEqual(len(tie_counts(web)), web[0])
+
+    def test_numberings_and_papers_told_may_be_handed_in_again(self):
+        for web, numbers in NUMBERED:
+            for told in (mirrored_steps(web, numbers), nth_steps(web, 0) if len(web[1]) <= 7 else numbers):
+                self.assertIs(steps_good(web, told), True)
+        held = (row_web(2), (0, 1))
+        for k in range(19):
+            held = joined_webs(*held, *joined_webs(row_web(2), (1, 0), row_web(2), (0, 1)))
+        self.assertEqual((held[0][0], steps_good(*held)), (40, True))
+        for web, begun in ((ring_web(7), (0, 1)), (row_web(8), (0, 6)), (ring_web(5), ())):
+            self.assertIs(paper_holds(web, begun, paper_for(web, begun)), True)
 
     def test_pieces_spoilt_by_the_asker_leave_sides_alone(self):
         web = WEBS[2]

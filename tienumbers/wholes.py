@@ -8,3 +8,8 @@ def is_whole(thing):
 
 def whole_within(thing, least, most):
     return is_whole(thing) and least <= thing <= most
+
+
+def unlike_within(things, least, most):
+    # Whether they are whole numbers is asked first, as a set can't hold whatever may be handed in.
+    return all([whole_within(thing, least, most) for thing in things]) and len(set(things)) == len(things)
