@@ -66,6 +66,7 @@ class StepsForTest(unittest.TestCase):
         for n in range(3, 41):
             if n % 4 == 0 or (n + 1) % 4 == 0:
                 self.look(("ring", n))
+                self.assertFalse(any(step_bar_holds(ring_web(n), bar) for bar in (("places",), ("even",))))
             else:
                 self.assertEqual(steps_for(("ring", n)), ("bar", ("even",)))
                 self.assertTrue(step_bar_holds(ring_web(n), ("even",)))
@@ -133,6 +134,11 @@ class GrownTest(unittest.TestCase):
         self.assertEqual(grown_steps((1, ()), (0,), 1), ((2, ((0, 1),)), (0, 1)))
         self.assertEqual(grown_above((1, ()), (0,), 1), ((2, ((0, 1),)), (1, 0)))
         self.assertEqual(grown_above((1, ()), (0,), 3), (star_web(4), (3, 2, 1, 0)))
+
+    def test_by_none_it_is_as_it_was(self):
+        for held in (((1, ()), (0,)), (row_web(40), zigzag(40)), (sides_web(6, 10), sides_numbers(6, 10))):
+            self.assertEqual(grown_steps(*held, 0), held)
+            self.assertEqual(grown_above(*held, 0), held)
 
     def test_small_webs_by_one_and_by_many(self):
         for web in small_webs():
