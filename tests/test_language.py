@@ -198,6 +198,35 @@ class LanguageTest(unittest.TestCase):
             for bound in bound_names(tree):
                 self.assertTrue(bound in ALLOWED_DOUBLE or re.fullmatch(r"[A-Za-z][A-Za-z0-9_]*", bound), bound)
 
+    def test_locals_are_not_called_like_imports_or_classes_L15(self):
+        for name, tree in trees():
+            drawn = {part.name for row in tree.body if isinstance(row, ast.ImportFrom) for part in row.names}
+            kept = drawn | {row.name for row in tree.body if isinstance(row, ast.ClassDef)}
+            for row in tree.body:
+                if isinstance(row, (ast.FunctionDef, ast.ClassDef)):
+                    self.assertEqual((set(bound_names(row)) - {row.name}) & kept, set(), name)
+
+    def test_dicts_and_lists_of_the_top_L15(self):
+        for name, tree in trees():
+            above = parents(tree)
+            made = {row.targets[0].id: row.value for row in tree.body if isinstance(row, ast.Assign)}
+            kept = [key for key, value in made.items() if isinstance(value, (ast.List, ast.Dict))]
+            for key in kept:
+                inner = list(ast.walk(made[key]))[1:]
+                self.assertFalse([node for node in inner if isinstance(node, (ast.List, ast.Dict))], name)
+            for node in ast.walk(tree):
+                if isinstance(node, ast.Name) and node.id in kept and isinstance(node.ctx, ast.Load):
+                    self.assertIsInstance(above[node], (ast.Subscript, ast.Compare), (name, node.lineno))
+
+    def test_methods_and_values_L18_L26(self):
+        methods = {row.name for name, node in nodes() if isinstance(node, ast.ClassDef) for row in node.body
+                   if isinstance(row, ast.FunctionDef)}
+        values = {node.attr for name, node in nodes() if isinstance(node, ast.Attribute)
+                  and isinstance(node.ctx, ast.Store)}
+        self.assertEqual(methods & values, set())
+        own = {word for one in ("", 0, [], {}, set(), b"", ()) for word in dir(one)}
+        self.assertEqual(((methods | values) & own) - ALLOWED_METHODS, set())
+
     def test_methods_L25(self):
         own = {node.name for name, node in nodes() if isinstance(node, ast.FunctionDef)}
         for name, node in nodes():

@@ -4,8 +4,8 @@ import itertools
 import unittest
 
 from tests.things import (
-    all_steps, odd_things, own_good, own_parting, own_steps, ring_web, row_web, sides_numbers, sides_web, small_webs,
-    star_web, zigzag,
+    NO_KINDS, all_rings, all_sides, all_steps, fans_and_wheels, full_kinds, many_spines, odd_things, own_good, own_parting,
+    own_steps, ring_web, row_web, sides_numbers, sides_web, small_webs, star_web, zigzag,
 )
 from tienumbers.errors import NoKind, NoWeb
 from tienumbers.kinds import kind_good, web_for
@@ -13,33 +13,8 @@ from tienumbers.making import grown_above, grown_steps, parted_for, steps_for
 from tienumbers.steps import step_bar_holds
 from tienumbers.webs import is_web
 
-OTHER_KINDS = [("full", n) for n in range(1, 12)] + [("fan", n) for n in range(1, 31)]
-OTHER_KINDS += [("wheel", n) for n in range(3, 31)]
-
-NO_KINDS = [
-    ("spine", ()), ("spine", [0, 1]), ("spine", (-1,)), ("spine", (True,)), ("spine", (0,) * 41), ("spine", (40,)),
-    ("spine", 3), ("spine",), ("spine", (1,), (1,)), ["spine", (1,)],
-    ("ring", 2), ("ring", 41), ("ring", True), ("ring", "4"), ("ring", 4, 4), ("ring",), ["ring", 4], ("ring", None),
-    ("sides", 0, 3), ("sides", 3, 0), ("sides", 1, 40), ("sides", 2, 31), ("sides", 8, 8), ("sides", 2),
-    ("sides", 2, 2, 2), ("sides", True, 2), ["sides", 2, 2],
-    ("full", 0), ("fan", 31), ("wheel", 2), ("star", 4), ("row", 4), (4, "ring"),
-]
-
-
-def spines():
-    """All legs of small spines, and great ones of many shapes."""
-    found = []
-    for many in range(1, 6):
-        found.extend(itertools.product(range(4), repeat=many))
-    found.extend([(0,) * 40, (39,), (0, 38), (38, 0), (19, 19), (1,) * 20, (0, 37, 0), (9, 9, 9, 9), (0, 1) * 13])
-    found.extend([(3, 0, 0, 7, 1, 0, 12, 0, 0, 5), (0,) * 20 + (19,), (20,) + (0,) * 19, (12, 12, 13), (0, 0, 35, 1)])
-    found.extend((0,) * many for many in range(6, 40))
-    found.extend((legs,) for legs in range(4, 39))
-    return [("spine", legs) for legs in found]
-
-
-def all_sides():
-    return [("sides", m, n) for m in range(1, 40) for n in range(1, 40) if m + n <= 40 and m * n <= 60]
+OTHER_KINDS = full_kinds() + fans_and_wheels()
+SPINES = many_spines() + [("spine", legs) for legs in itertools.product(range(4), repeat=5)] + [("spine", (0,))]
 
 
 class StepsForTest(unittest.TestCase):
@@ -52,7 +27,7 @@ class StepsForTest(unittest.TestCase):
         self.assertEqual(sum(own_steps(web, told[1])), len(web[1]) * (len(web[1]) + 1) // 2)
 
     def test_each_spine(self):
-        for kind in spines():
+        for kind in SPINES:
             self.look(kind)
 
     def test_the_spine_of_one_place(self):
@@ -87,7 +62,7 @@ class StepsForTest(unittest.TestCase):
 
 class PartedForTest(unittest.TestCase):
     def test_each_spine_and_sides(self):
-        for kind in spines() + all_sides():
+        for kind in SPINES + all_sides():
             if kind != ("spine", (0,)):
                 web = web_for(kind)
                 told = parted_for(kind)
@@ -95,8 +70,7 @@ class PartedForTest(unittest.TestCase):
                 self.assertEqual(len(own_parting(web, told)), 1, kind)
 
     def test_what_is_refused(self):
-        rings = [("ring", n) for n in range(3, 41)]
-        for thing in rings + [("spine", (0,))] + OTHER_KINDS + NO_KINDS + odd_things():
+        for thing in all_rings() + [("spine", (0,))] + OTHER_KINDS + NO_KINDS + odd_things():
             with self.assertRaises(NoKind) as taken:
                 parted_for(thing)
             self.assertIs(type(taken.exception), NoKind, repr(thing))

@@ -5,12 +5,21 @@ import unittest
 
 from tests.things import greatest_web, odd_things, ring_web, row_web, sides_numbers, sides_web, star_web, zigzag
 from tienumbers.counting import goes_on, next_numbers, next_steps, nth_steps, rank_of, steps_count, tally_at
-from tienumbers.errors import NoKind, NoNumber, NoPlace, NoWeb, TieError, TooGreat
+from tienumbers.errors import NoKind, NoNumber, NoPlace, NoShare, NoSquare, NoWeb, TieError, TooGreat
+from tienumbers.evens import even_bar, even_bar_holds, even_for, even_good, numbering_of, place_sums, square_of
 from tienumbers.kinds import kind_good, web_for
 from tienumbers.making import grown_above, grown_steps, parted_for, steps_for
+from tienumbers.rounds import (
+    round_bar, round_bar_holds, round_for, round_from, round_good, round_sums, times_round, turned_round,
+)
 from tienumbers.searches import paper_for, paper_holds
+from tienumbers.squares import moved_square, opposite_square, square_for, square_good, turned_square
 from tienumbers.steps import (
     half_turned, joined_webs, mirrored_steps, parted_at, step_bar, step_bar_holds, steps_good, steps_of,
+)
+from tienumbers.totals import (
+    low_by, low_good, low_opposite, opposite_total, total_bar_holds, total_bars, total_for, total_good, total_of,
+    total_span,
 )
 from tienumbers.webs import hubs_of, is_web, pieces_of, sides_of, ties_at, tie_counts, tree_like, web_of
 from tienumbers.wholes import is_whole, whole_within
@@ -22,6 +31,9 @@ NUMBERED = [
     ((1, ()), (0,)), (row_web(5), zigzag(5)), (ring_web(3), (0, 1, 3)), (star_web(6), (0, 5, 4, 3, 2, 1)),
     (row_web(40), zigzag(40)), (sides_web(6, 10), sides_numbers(6, 10)),
 ]
+SUMMED = [web_for(kind) for kind in KINDS] + [row_web(2), ring_web(6), ring_web(39), sides_web(3, 3), (5, ((0, 4),))]
+BARS = [("places",), ("share", 2), ("all",), ("ties",), ("lone",), ("count",), ("end", 0), ("pair", 0, 1), ("sides", 0)]
+BARS += [("poor", 0), ("rich", 1), ["share", 2]]
 PAPERS = [("bar", ("even",)), ("bar", ("places",)), ("clash", 0, 1), ("cases", (None,) * 6), ("cases", (None,))]
 
 DUE = {
@@ -30,13 +42,15 @@ DUE = {
     parted_for: (NoKind,), grown_steps: (NoWeb,), grown_above: (NoWeb,), steps_count: (TooGreat,),
     nth_steps: (TooGreat, NoNumber), rank_of: (TooGreat, NoNumber), next_steps: (TooGreat, NoNumber),
     goes_on: (TooGreat, NoNumber), next_numbers: (TooGreat, NoNumber), tally_at: (TooGreat, NoPlace),
-    paper_holds: (NoNumber,), paper_for: (TooGreat, NoNumber),
+    paper_holds: (NoNumber,), paper_for: (TooGreat, NoNumber), round_sums: (NoPlace,), times_round: (NoShare,),
+    round_for: (NoKind,), total_of: (NoNumber,), opposite_total: (NoNumber,), low_opposite: (NoNumber,),
+    low_by: (NoNumber,), total_for: (NoKind,), square_for: (NoSquare,), even_for: (NoKind,),
 }
 
 
 def questions():
     """Each question as a function and what it is handed, refusals among them."""
-    return web_questions() + steps_questions() + counting_questions()
+    return web_questions() + steps_questions() + counting_questions() + sums_questions() + square_questions()
 
 
 def steps_questions():
@@ -56,6 +70,35 @@ def steps_questions():
     for thing in KINDS + [("ring", 8), ("ring", 2)] + odd_things():
         found.append((steps_for, (thing,)))
         found.append((parted_for, (thing,)))
+    return found
+
+
+def sums_questions():
+    found = [(round_sums, (web, (2,) * web[0])) for web in WEBS + SUMMED]
+    for web in SUMMED:
+        row = tuple(place % len(web[1]) for place in range(web[0]))
+        found += [(turned_round, (web, row, more)) for more in (1, -3, 10 ** 99)]
+        found += [(times_round, (web, row, often)) for often in (1, 0, 2, -3, 10 ** 99)]
+        low = (tuple(range(1, web[0] + 1)), tuple(range(web[0] + 1, web[0] + len(web[1]) + 1)))
+        found.append((place_sums, (web, low[1])))
+        found += [(asked, (web,)) for asked in (round_bar, total_span, total_bars, even_bar)]
+        for thing in [row, low, low[0], list(low[0]), low[1], ((1, 2), (3,))] + BARS + odd_things():
+            for asked in (round_good, round_bar_holds, total_good, low_good, total_of, opposite_total, low_opposite,
+                          low_by, total_bar_holds, even_good, even_bar_holds):
+                found.append((asked, (web, thing)))
+    found += [(round_from, held) for held in NUMBERED[1:2] + NUMBERED[3:5]]
+    for thing in KINDS + [("ring", 6), ("ring", 2), ("spine", (0,))] + odd_things():
+        found += [(asked, (thing,)) for asked in (round_for, total_for, even_for)]
+    return found
+
+
+def square_questions():
+    found = [(asked, (thing,)) for thing in [1, 2, 3, 7] + odd_things() for asked in (square_for, square_good)]
+    for size in (1, 3, 4, 7):
+        square = square_for(size)
+        found += [(asked, (square,)) for asked in (square_good, opposite_square, turned_square, numbering_of)]
+        found += [(square_of, (numbering_of(square),)), (square_good, (list(square),))]
+        found.append((moved_square, (square, tuple(range(size)), tuple(reversed(range(size))))))
     return found
 
 
@@ -148,6 +191,20 @@ class SteadyTest(unittest.TestCase):
         self.assertEqual((held[0][0], steps_good(*held)), (40, True))
         for web, begun in ((ring_web(7), (0, 1)), (row_web(8), (0, 6)), (ring_web(5), ())):
             self.assertIs(paper_holds(web, begun, paper_for(web, begun)), True)
+
+    def test_what_is_made_for_kinds_may_be_handed_in_again(self):
+        for kind in [("spine", (0,) * 40), ("ring", 39), ("spine", (1, 0, 2))]:
+            web = web_for(kind)
+            self.assertIs(round_good(web, turned_round(web, round_for(kind)[1], 5)), True)
+            self.assertIs(low_good(web, low_opposite(web, total_for(kind))), True)
+            self.assertIs(even_bar_holds(web, even_for(kind)[1]), True)
+        for web in WEBS[1:] + SUMMED:
+            self.assertTrue(all(total_bar_holds(web, bar) for bar in total_bars(web)))
+            self.assertIs(round_bar_holds(web, round_bar(web)), round_bar(web) is not None)
+            self.assertIs(even_bar_holds(web, even_bar(web)), even_bar(web) is not None)
+        for size in (1, 3, 4, 5, 6, 7):
+            told = opposite_square(turned_square(square_of(numbering_of(square_for(size)))))
+            self.assertIs(square_good(told), True)
 
     def test_pieces_spoilt_by_the_asker_leave_sides_alone(self):
         web = WEBS[2]

@@ -144,3 +144,86 @@ def spoilt_numberings(web, numbers):
             found.append(changed(numbers, place, numbers[later]))
             found.append(changed(changed(numbers, place, numbers[later]), later, number))
     return [thing for thing in found + odd_things() if not own_good(web, thing)]
+
+
+def greatest_spines():
+    """Spines of 39 and of 40 places, of many shapes."""
+    legs = [(0,) * 40, (39,), (0, 38), (38, 0), (19, 19), (1,) * 20, (0, 37, 0), (9, 9, 9, 9), (0, 1) * 13 + (0,)]
+    legs += [(3, 0, 0, 7, 1, 0, 12, 0, 0, 5), (0,) * 20 + (19,), (20,) + (0,) * 19, (12, 12, 13), (0, 0, 35, 1), (38,)]
+    return [("spine", one) for one in legs]
+
+
+def many_spines():
+    """Spines of two places or more, small ones of each shape and great ones."""
+    legs = [one for many in range(1, 5) for one in itertools.product(range(4), repeat=many) if one != (0,)]
+    legs += [(0,) * many for many in range(5, 40)] + [(leg,) for leg in range(4, 38)]
+    return [("spine", one) for one in legs] + greatest_spines()
+
+
+def all_sides():
+    return [("sides", m, n) for m in range(1, 40) for n in range(1, 40) if m + n <= 40 and m * n <= 60]
+
+
+def all_rings():
+    return [("ring", n) for n in range(3, 41)]
+
+
+def full_kinds():
+    return [("full", n) for n in range(1, 12)]
+
+
+def fans_and_wheels():
+    return [("fan", n) for n in range(1, 31)] + [("wheel", n) for n in range(3, 31)]
+
+
+NO_KINDS = [
+    ("spine", ()), ("spine", [0, 1]), ("spine", (-1,)), ("spine", (True,)), ("spine", (0,) * 41), ("spine", (40,)),
+    ("spine", 3), ("spine",), ("spine", (1,), (1,)), ["spine", (1,)], ("spine", None), ("spine", ("1",)),
+    ("ring", 2), ("ring", 41), ("ring", True), ("ring", "4"), ("ring", 4, 4), ("ring",), ["ring", 4], ("ring", None),
+    ("sides", 0, 3), ("sides", 3, 0), ("sides", 1, 40), ("sides", 2, 31), ("sides", 8, 8), ("sides", 2),
+    ("sides", 2, 2, 2), ("sides", True, 2), ["sides", 2, 2], ("full", 0), ("full", 12), ("full", None), ["full", 3],
+    ("fan", 31), ("fan", 0), ("fan", True), ("wheel", 2), ("wheel", 31), ["wheel", 3], ("star", 4), ("row", 4),
+    (4, "ring"), "ring", "ring 5", {"ring": 5}, ("ring", (5,)), ("sides", (3, 3)),
+]
+
+
+def pieced(webs):
+    """One web of all these, one behind the other."""
+    many = 0
+    ties = []
+    for web in webs:
+        ties += [(a + many, b + many) for a, b in web[1]]
+        many += web[0]
+    return (many, tuple(ties))
+
+
+def own_degrees(web):
+    return [sum(place in tie for tie in web[1]) for place in range(web[0])]
+
+
+def odd_bars():
+    """Whatever comes near a bar by its form and is none of any web with less than 60 places."""
+    found = [("places", 0), ("places", None), ["places"], "places", ("Places",), ("place",), (("places",),)]
+    found += [("share",), ("share", 2, 2), ("share", None), ("share", "2"), ("share", (2,)), ("share", [2])]
+    found += [["share", 2], ("share", True), ("share", False), ("share", 0), ("share", 1), ("share", -1), ("share", -2)]
+    found += [("share", 10 ** 99), ("share", -(10 ** 99)), (2, "share"), ("all", 0), ["all"], "all", ("al",), ("All",)]
+    found += [("ties", 0), ["ties"], "ties", ("tie",), ("even", 0), ("count", 0), ["count"], "count", ["lone"], "lone"]
+    for word in ("end", "sides", "poor", "rich"):
+        found += [(word,), [word, 0], (word, 0, 0), (word, None), (word, True), (word, False), (word, "0"), (word, (0,))]
+        found += [(word, -1), (word, 60), (word, 10 ** 99), word]
+    for word in ("pair", "bare"):
+        found += [(word,), (word, 0), (word, 0, 1, 2), [word, 0, 1], (word, 0, 0), (word, False, True), (word, 0, True)]
+        found += [(word, 0, None), (word, (0, 1)), (word, -1, 0), (word, 0, 60), (word, "0", "1"), word]
+    return found + [(None,), (True,), (0,), (), None] + odd_things()
+
+
+@functools.lru_cache(maxsize=None)
+def unlike_webs(many):
+    """The webs of so many places, one of each shape."""
+    found = {}
+    for web in webs_of(many):
+        shapes = []
+        for order in itertools.permutations(range(many)):
+            shapes.append(tuple(sorted(tuple(sorted((order[a], order[b]))) for a, b in web[1])))
+        found.setdefault(min(shapes), web)
+    return list(found.values())

@@ -61,6 +61,13 @@ def half_turned(web, numbers):
     return tuple([t - number if number <= t else above - number for number in numbers])
 
 
+def upper_turned(web, numbers):
+    # With the greater part alone turned, each sum of a tie's ends is one and the same number less its step.
+    t = parting_number(web, numbers)
+    above = len(web[1]) + t + 1
+    return tuple([number if number <= t else above - number for number in numbers])
+
+
 def step_bar_holds(web, thing):
     q = len(web[1])
     if thing == ("places",):

@@ -13,3 +13,7 @@ def whole_within(thing, least, most):
 def unlike_within(things, least, most):
     # Whether they are whole numbers is asked first, as a set can't hold whatever may be handed in.
     return all([whole_within(thing, least, most) for thing in things]) and len(set(things)) == len(things)
+
+
+def each_once(things, most):
+    return len(things) == most and unlike_within(things, 1, most)
