@@ -69,6 +69,8 @@ class SquareGoodTest(unittest.TestCase):
         self.assertIs(square_good(((0,),)), False)
         self.assertIs(square_good(((True,),)), False)
         self.assertIs(square_good(((),)), False)
+        self.assertIs(square_good(((2, 7), (6, 9, 5, 1), (4, 3, 8))), False)
+        self.assertIs(square_good(((2, 7, 6, 9), (5, 1), (4, 3, 8))), False)
 
     def test_columns_and_rows_both_count(self):
         rows_alone = ((1, 5, 9), (2, 6, 7), (3, 4, 8))

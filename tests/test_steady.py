@@ -4,8 +4,12 @@ import copy
 import unittest
 
 from tests.things import greatest_web, odd_things, ring_web, row_web, sides_numbers, sides_web, star_web, zigzag
+from tienumbers.copies import cut_by, cut_good, folds_by, found_in
 from tienumbers.counting import goes_on, next_numbers, next_steps, nth_steps, rank_of, steps_count, tally_at
-from tienumbers.errors import NoKind, NoNumber, NoPlace, NoShare, NoSquare, NoWeb, TieError, TooGreat
+from tienumbers.desk import Desk
+from tienumbers.errors import (
+    NoKind, NoNumber, NoPlace, NoRow, NoShare, NoSquare, NoText, NoWeb, TieError, TooGreat,
+)
 from tienumbers.evens import even_bar, even_bar_holds, even_for, even_good, numbering_of, place_sums, square_of
 from tienumbers.kinds import kind_good, web_for
 from tienumbers.making import grown_above, grown_steps, parted_for, steps_for
@@ -17,9 +21,13 @@ from tienumbers.squares import moved_square, opposite_square, square_for, square
 from tienumbers.steps import (
     half_turned, joined_webs, mirrored_steps, parted_at, step_bar, step_bar_holds, steps_good, steps_of,
 )
+from tienumbers.texts import web_read, web_shown
 from tienumbers.totals import (
     low_by, low_good, low_opposite, opposite_total, total_bar_holds, total_bars, total_for, total_good, total_of,
     total_span,
+)
+from tienumbers.unlike import (
+    unlike_bar, unlike_bar_holds, unlike_by, unlike_count, unlike_first, unlike_for, unlike_good,
 )
 from tienumbers.webs import hubs_of, is_web, pieces_of, sides_of, ties_at, tie_counts, tree_like, web_of
 from tienumbers.wholes import is_whole, whole_within
@@ -36,6 +44,14 @@ BARS = [("places",), ("share", 2), ("all",), ("ties",), ("lone",), ("count",), (
 BARS += [("poor", 0), ("rich", 1), ["share", 2]]
 PAPERS = [("bar", ("even",)), ("bar", ("places",)), ("clash", 0, 1), ("cases", (None,) * 6), ("cases", (None,))]
 
+
+def said_behind(deeds, row):
+    desk = Desk()
+    for deed in deeds:
+        desk.say(deed)
+    return desk.say(row)
+
+
 DUE = {
     web_of: (NoWeb,), ties_at: (NoPlace,), web_for: (NoKind,), steps_of: (NoNumber,), mirrored_steps: (NoNumber,),
     parted_at: (NoNumber,), half_turned: (NoNumber,), joined_webs: (NoNumber, TooGreat), steps_for: (NoKind,),
@@ -45,12 +61,16 @@ DUE = {
     paper_holds: (NoNumber,), paper_for: (TooGreat, NoNumber), round_sums: (NoPlace,), times_round: (NoShare,),
     round_for: (NoKind,), total_of: (NoNumber,), opposite_total: (NoNumber,), low_opposite: (NoNumber,),
     low_by: (NoNumber,), total_for: (NoKind,), square_for: (NoSquare,), even_for: (NoKind,),
+    unlike_by: (NoKind, NoNumber), unlike_for: (NoKind,), unlike_count: (TooGreat,), unlike_first: (TooGreat,),
+    cut_by: (TooGreat,), found_in: (TooGreat, NoPlace), folds_by: (TooGreat,), web_read: (NoText,),
+    said_behind: (NoRow, NoWeb, NoKind, NoPlace, NoNumber, TooGreat),
 }
 
 
 def questions():
     """Each question as a function and what it is handed, refusals among them."""
-    return web_questions() + steps_questions() + counting_questions() + sums_questions() + square_questions()
+    found = web_questions() + steps_questions() + counting_questions() + sums_questions() + square_questions()
+    return found + unlike_questions() + cut_questions() + text_questions() + desk_questions()
 
 
 def steps_questions():
@@ -89,6 +109,45 @@ def sums_questions():
     found += [(round_from, held) for held in NUMBERED[1:2] + NUMBERED[3:5]]
     for thing in KINDS + [("ring", 6), ("ring", 2), ("spine", (0,))] + odd_things():
         found += [(asked, (thing,)) for asked in (round_for, total_for, even_for)]
+    return found
+
+
+def unlike_questions():
+    found = []
+    for web in SUMMED + [(1, ()), star_web(40)]:
+        numbers = list(range(1, len(web[1]) + 1))
+        found += [(asked, (web,)) for asked in (unlike_bar, unlike_count, unlike_first)]
+        for thing in [numbers, tuple(numbers), numbers[::-1], ("lone", 0), ("bare", 0, 1)] + odd_things():
+            found += [(asked, (web, thing)) for asked in (unlike_good, unlike_by, unlike_bar_holds)]
+    return found + [(unlike_for, (thing,)) for thing in KINDS + [("ring", 40), ("spine", (39,))] + odd_things()]
+
+
+def cut_questions():
+    found = []
+    for web, numbers in NUMBERED[1:]:
+        found.append((cut_by, (web, numbers)))
+        for thing in [0, 1, 2, 6] + odd_things():
+            found += [(found_in, (web, numbers, 0, thing)), (found_in, (web, numbers, thing, 1))]
+        for thing in [[numbers], [], [tuple(range(web[0]))]] + odd_things():
+            found.append((cut_good, (web, 2 * len(web[1]) + 1, thing)))
+    for web, numbers in NUMBERED[1:2] + NUMBERED[3:]:
+        found += [(folds_by, (web, numbers, folds)) for folds in (1, 2, 4, 31)]
+    found.append((cut_good, (row_web(5), 9, cut_by(row_web(5), zigzag(5)))))
+    return found
+
+
+def text_questions():
+    found = [(web_shown, (web,)) for web in WEBS]
+    return found + [(web_read, (thing,)) for thing in [web_shown(web) for web in WEBS] + ["web 3\n"] + odd_things()]
+
+
+def desk_questions():
+    """Each is asked of a desk that is made anew and told the same deeds."""
+    rows = ["ties", "numbers", "steps", "left", "first", "can 1", "can 9", "good", "bar even", "shown", "back", "web 0"]
+    rows += ["ring 2", "tie 0 1", "tie 0 9", "put 0 3", "put 1 61", "free 0", "free 1", "cut 0 1", "spine 1 1"]
+    found = []
+    for deeds in ([], ["ring 4", "put 0 4"], ["ring 8", "put 1 60"]):
+        found += [(said_behind, (deeds, thing)) for thing in rows + odd_things()]
     return found
 
 
@@ -205,6 +264,22 @@ class SteadyTest(unittest.TestCase):
         for size in (1, 3, 4, 5, 6, 7):
             told = opposite_square(turned_square(square_of(numbering_of(square_for(size)))))
             self.assertIs(square_good(told), True)
+
+    def test_cuts_and_texts_told_may_be_handed_in_again(self):
+        for web, numbers in NUMBERED[1:4]:
+            self.assertIs(cut_good(web, 2 * len(web[1]) + 1, cut_by(web, numbers)), True)
+        web, numbers = row_web(16), zigzag(16)
+        self.assertIs(cut_good(web, 61, folds_by(web, numbers, 2)), True)
+        for web in WEBS + SUMMED:
+            self.assertEqual(web_read(web_shown(web)), web)
+            self.assertIs(unlike_bar_holds(web, unlike_bar(web)), unlike_bar(web) is not None)
+            if 0 < len(web[1]) <= 6:
+                self.assertIs(unlike_good(web, unlike_first(web)), unlike_count(web) > 0)
+        for kind in (("ring", 40), ("spine", (0,) * 40), ("wheel", 30), ("full", 11)):
+            told = unlike_for(kind)
+            self.assertIs(unlike_good(web_for(kind), told), True)
+            self.assertEqual(web_for(kind)[1] and sorted(told), list(range(1, len(told) + 1)))
+        self.assertEqual(sorted(unlike_by(star_web(40), unlike_for(("sides", 1, 39)))), list(range(1, 40)))
 
     def test_pieces_spoilt_by_the_asker_leave_sides_alone(self):
         web = WEBS[2]
